@@ -14,8 +14,8 @@ import (
 
 const last = api.MaxTime
 
-// numbers are integers in ascending order, as many on each side of 0 and of MaxTime: those next to the two,
-// others of every size, and those whose sums, differences and negations do not fit into 64 bits.
+// numbers are integers in ascending order: those next to 0 and to MaxTime, others of every size on both sides
+// of the two, and those whose sums and differences do not fit into 64 bits.
 var numbers = []int64{
 	math.MinInt64, math.MinInt64 + 1, math.MinInt64 + 7, math.MinInt64 + last, math.MinInt64 / 2, -2*last - 1, -2 * last, -last - 1, -last, -last + 1,
 	-1 << 32, -1 << 31, -1000, -3, -2, -1, 0, 1, 2, 3, 9, 10, 99, 100, 1000, 1 << 31, 1 << 32, last/2 - 1, last / 2, last/2 + 1, last - 3, last - 2, last - 1, last,
